@@ -1,0 +1,1 @@
+"""Tellroads: tellings that are gone on with after a cut."""
