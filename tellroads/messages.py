@@ -52,6 +52,10 @@ def of_topics(messages, topics):
     return [message for message in messages if topic_of(message) in topics]
 
 
+def with_greater_numbers(messages, number):
+    return [message for message in messages if number_of(message) > number]
+
+
 def last_ones(messages):
     newest = {}
     for message in sorted(messages, key=number_of):

@@ -1,11 +1,7 @@
 """A teller numbers what it tells, keeps some of it, and tells whoever was cut off how to go on."""
 
 from tellroads.errors import NoNumber
-from tellroads.messages import last_ones, number_of, of_topics
-
-
-def with_greater_numbers(messages, number):
-    return [message for message in messages if number_of(message) > number]
+from tellroads.messages import last_ones, of_topics, with_greater_numbers
 
 
 class Teller:
