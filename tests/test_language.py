@@ -38,6 +38,7 @@ IS_BESIDE = ("None", "True", "False")
 NO_VALUES = set("""
     items keys values pop update append clear extend insert remove reverse setdefault sort args encode format
 """.split())
+FREE_VALUES = set("count index title find get join lower upper split strip copy add".split())
 
 
 def sources():
@@ -167,6 +168,11 @@ def values_in(trees):
     return {node.attr for tree in trees for node in walk(tree, ast.Attribute) if isinstance(node.ctx, ast.Store)}
 
 
+def names_at_top(tree):
+    names = [node.name for node in tree.body if isinstance(node, (ast.FunctionDef, ast.ClassDef))]
+    return names + [node.targets[0].id for node in tree.body if isinstance(node, ast.Assign)]
+
+
 def method_faults(tree, own):
     called = [node.func for node in walk(tree, ast.Call) if isinstance(node.func, ast.Attribute)]
     return [f"L25 {node.attr}, {node.lineno}" for node in called if node.attr not in OWN_METHODS | own]
@@ -198,6 +204,21 @@ class Language(unittest.TestCase):
         self.assertEqual(methods_in(trees) & values_in(trees), set())
         self.assertEqual(NO_VALUES & values_in(trees), set())
 
+    def test_methods_and_values_are_not_called_like_those_of_pythons_own(self):
+        trees = [ast.parse(text) for text in sources().values()]
+        taken = {name for kind in (str, int, list, tuple, dict, set, bytes) for name in dir(kind)}
+        self.assertEqual(methods_in(trees) & taken - OWN_METHODS - DOUBLE - {"add", "discard"}, set())
+        self.assertEqual(values_in(trees) & taken - FREE_VALUES, set())
+
+    def test_each_name_once(self):
+        for name, text in sources().items():
+            tree = ast.parse(text)
+            tops = names_at_top(tree) + [one.name for node in walk(tree, ast.ImportFrom) for one in node.names]
+            self.assertEqual(sorted(tops), sorted(set(tops)), name)
+            for node in walk(tree, ast.ClassDef):
+                methods = [one.name for one in walk(node, ast.FunctionDef)]
+                self.assertEqual(sorted(methods), sorted(set(methods)), node.name)
+
     def test_no_two_files_draw_from_one_another(self):
         draws = {}
         for name, text in sources().items():
@@ -211,7 +232,7 @@ class Language(unittest.TestCase):
     def test_names_are_drawn_from_the_file_that_defines_them(self):
         defined = {}
         for name, text in sources().items():
-            defined[name] = {getattr(node, "name", None) for node in ast.parse(text).body}
+            defined[name] = set(names_at_top(ast.parse(text)))
         for name, text in sources().items():
             for node in walk(ast.parse(text), ast.ImportFrom):
                 for one in node.names:
